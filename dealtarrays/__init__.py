@@ -1,0 +1,1 @@
+"""Dealtarrays: array programs run by a grid of machines."""

@@ -1,0 +1,69 @@
+"""The interface: what has landed exists under its name, in its file, with its arguments."""
+
+import inspect
+import unittest
+
+from dealtarrays import arrays, errors, programs
+
+FUNCTIONS = [
+    (arrays, "places", ["sides"]),
+    (arrays, "is_sides", ["sides"]),
+    (programs, "operands", ["step"]),
+]
+
+# For each class what makes an object, and its methods.
+CLASSES = [
+    (errors, "DealError", None, []),
+    (errors, "InvalidSides", ["sides"], []),
+    (errors, "InvalidCells", ["cells"], []),
+    (errors, "InvalidInputs", ["inputs"], []),
+    (errors, "NoFit", ["number"], []),
+    (errors, "NoName", ["name"], []),
+    (errors, "BadInput", ["number"], []),
+    (errors, "InvalidGrid", ["directions"], []),
+    (errors, "InvalidDealing", ["cuts", "parts"], []),
+    (errors, "NoMachine", ["machine"], []),
+    (errors, "NoDealing", ["number"], []),
+    (errors, "Quarrel", ["machine"], []),
+    (errors, "NoLetter", ["number"], []),
+    (errors, "InvalidText", ["text", "at"], []),
+    (errors, "TooMany", ["many"], []),
+    (errors, "NotDone", ["machine"], []),
+    (arrays, "Array", ["sides", "cells"], [("cell", ["place"]), ("__eq__", ["other"])]),
+    (programs, "Program", ["inputs", "steps"], [("names", []), ("sides_of", ["name"])]),
+]
+
+OBJECTS = [
+    (arrays.Array((("i", 2),), (1, 2)), ["sides", "cells"]),
+    (programs.Program((("a", ()),), (("b", "scale", "a", 2),)), ["inputs", "steps"]),
+]
+
+
+def arguments(function):
+    return [name for name in inspect.signature(function).parameters if name != "self"]
+
+
+class TestInterface(unittest.TestCase):
+    def test_functions(self):
+        for module, name, expected in FUNCTIONS:
+            function = getattr(module, name)
+            self.assertTrue(inspect.isfunction(function), name)
+            self.assertEqual(function.__module__, module.__name__)
+            self.assertEqual(arguments(function), expected, name)
+
+    def test_classes(self):
+        for module, name, expected, methods in CLASSES:
+            found = getattr(module, name)
+            self.assertTrue(inspect.isclass(found), name)
+            self.assertEqual(found.__module__, module.__name__)
+            if expected is not None:
+                self.assertEqual(arguments(found), expected, name)
+                self.assertIn("__init__", vars(found))
+            for method, more in methods:
+                self.assertIn(method, vars(found), name)
+                self.assertEqual(arguments(vars(found)[method]), more, (name, method))
+
+    def test_attributes_are_set_when_an_object_is_created(self):
+        for found, attributes in OBJECTS:
+            for name in attributes:
+                self.assertIn(name, vars(found))

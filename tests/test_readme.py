@@ -1,0 +1,14 @@
+"""The examples in README.md."""
+
+import doctest
+import pathlib
+import unittest
+
+README = pathlib.Path(__file__).resolve().parent.parent / "README.md"
+
+
+class TestReadme(unittest.TestCase):
+    def test_examples(self):
+        result = doctest.testfile(str(README), module_relative=False)
+        self.assertEqual(result.failed, 0)
+        self.assertGreater(result.attempted, 0)
