@@ -1,6 +1,6 @@
 """Arrays of integers with named sides."""
 
-from dealtarrays.basics import are_ascending, as_tuples, is_integer, is_integer_within, is_row, is_word
+from dealtarrays.basics import are_sizes, as_tuples, combined, is_integer, is_row, place_number, product_of
 from dealtarrays.errors import InvalidCells, InvalidSides
 
 MOST_SIDES = 4
@@ -21,10 +21,7 @@ class Array:
 
     def cell(self, place):
         """The cell at a place."""
-        number = 0
-        for (_, size), at in zip(self.sides, place):
-            number = number * size + at
-        return self.cells[number]
+        return self.cells[place_number(self.sides, place)]
 
     def __eq__(self, other):
         return isinstance(other, Array) and self.sides == other.sides and self.cells == other.cells
@@ -32,35 +29,15 @@ class Array:
 
 def places(sides):
     """All places of arrays with these sides, ascending."""
-    found = [()]
-    for _, size in sides:
-        found = [place + (at,) for place in found for at in range(size)]
-    return tuple(found)
+    return tuple(combined([tuple(range(size)) for _, size in sides]))
 
 
 def is_sides(sides):
     """Whether any value is sides."""
-    if not is_row(sides) or len(sides) > MOST_SIDES:
-        return False
-    if not all([_is_side(side) for side in sides]):
-        return False
-    return are_ascending([side[0] for side in sides]) and _many_cells(sides) <= MOST_CELLS
-
-
-def _is_side(value):
-    if not is_row(value) or len(value) != 2:
-        return False
-    return is_word(value[0]) and is_integer_within(value[1], 1, MOST_PLACES)
-
-
-def _many_cells(sides):
-    many = 1
-    for _, size in sides:
-        many = many * size
-    return many
+    return are_sizes(sides, MOST_SIDES, MOST_PLACES, MOST_CELLS)
 
 
 def _are_cells(cells, sides):
-    if not is_row(cells) or len(cells) != _many_cells(sides):
+    if not is_row(cells) or len(cells) != product_of([size for _, size in sides]):
         return False
     return all([is_integer(cell) for cell in cells])

@@ -38,6 +38,48 @@ def is_row_of_words(value):
     return is_row(value) and all([is_word(word) for word in value]) and are_ascending(value)
 
 
+def are_sizes(value, most, largest, many):
+    """Whether value is a row of at most so many pairs of an ascending, distinct word and a size from 1 to largest.
+
+    The product of the sizes is at most many.
+    """
+    if not is_row(value) or len(value) > most:
+        return False
+    if not all([_is_sized_word(pair, largest) for pair in value]):
+        return False
+    return are_ascending([pair[0] for pair in value]) and product_of([pair[1] for pair in value]) <= many
+
+
+def product_of(numbers):
+    """The product of the numbers in a row; 1 if there are none."""
+    found = 1
+    for number in numbers:
+        found = found * number
+    return found
+
+
+def combined(rows):
+    """All rows with one member of each of the rows, in the order in which the members stand there, the last fastest."""
+    found = [()]
+    for row in rows:
+        found = [members + (member,) for members in found for member in row]
+    return found
+
+
+def place_number(pairs, place):
+    """The number of a place among all places along words with sizes, in ascending order."""
+    number = 0
+    for (_, size), at in zip(pairs, place):
+        number = number * size + at
+    return number
+
+
 def as_tuples(row):
     """The row as a tuple, and the rows in it as tuples, so that nobody can change them."""
     return tuple([tuple(part) if is_row(part) else part for part in row])
+
+
+def _is_sized_word(value, largest):
+    if not is_row(value) or len(value) != 2:
+        return False
+    return is_word(value[0]) and is_integer_within(value[1], 1, largest)

@@ -15,7 +15,7 @@ class Program:
     """A program, in which each step fits to the inputs and to the steps before it."""
 
     def __init__(self, inputs, steps):
-        if not _are_inputs(inputs):
+        if not are_inputs(inputs):
             raise InvalidInputs(inputs)
         if not is_row(steps):
             raise NoFit(0)
@@ -47,11 +47,8 @@ def operands(step):
     return tuple(step[2:2 + OPERANDS[step[1]]])
 
 
-def _is_new_name(name, known):
-    return is_word(name) and name != NO_NAME and name not in known
-
-
-def _are_inputs(inputs):
+def are_inputs(inputs):
+    """Whether any value is inputs of a program."""
     if not is_row(inputs) or len(inputs) > MOST_INPUTS:
         return False
     known = {}
@@ -62,3 +59,7 @@ def _are_inputs(inputs):
             return False
         known[pair[0]] = True
     return True
+
+
+def _is_new_name(name, known):
+    return is_word(name) and name != NO_NAME and name not in known

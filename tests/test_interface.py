@@ -3,12 +3,19 @@
 import inspect
 import unittest
 
-from dealtarrays import arrays, errors, programs
+from dealtarrays import arrays, errors, grids, plain, programs, slopes, texts
 
 FUNCTIONS = [
     (arrays, "places", ["sides"]),
     (arrays, "is_sides", ["sides"]),
     (programs, "operands", ["step"]),
+    (texts, "write_program", ["program"]),
+    (texts, "read_program", ["text"]),
+    (plain, "run_plain", ["program", "arrays"]),
+    (slopes, "slopes", ["program", "name", "seed"]),
+    (grids, "fits", ["dealing", "sides", "grid"]),
+    (grids, "dealings", ["sides", "grid"]),
+    (grids, "places_of", ["dealing", "sides", "grid", "machine"]),
 ]
 
 # For each class what makes an object, and its methods.
@@ -31,11 +38,15 @@ CLASSES = [
     (errors, "NotDone", ["machine"], []),
     (arrays, "Array", ["sides", "cells"], [("cell", ["place"]), ("__eq__", ["other"])]),
     (programs, "Program", ["inputs", "steps"], [("names", []), ("sides_of", ["name"])]),
+    (grids, "Grid", ["directions"], [("place_of", ["machine"]), ("machine_at", ["place"]), ("__eq__", ["other"])]),
+    (grids, "Dealing", ["cuts", "parts"], [("__eq__", ["other"])]),
 ]
 
 OBJECTS = [
     (arrays.Array((("i", 2),), (1, 2)), ["sides", "cells"]),
     (programs.Program((("a", ()),), (("b", "scale", "a", 2),)), ["inputs", "steps"]),
+    (grids.Grid((("x", 2),)), ["directions", "many"]),
+    (grids.Dealing((("i", "blocks", "x"),), ("y",)), ["cuts", "parts"]),
 ]
 
 
