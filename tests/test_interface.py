@@ -3,7 +3,9 @@
 import inspect
 import unittest
 
-from dealtarrays import arrays, errors, grids, plain, programs, slopes, texts
+from dealtarrays import (
+    arrays, errors, exchanges, grids, makes, moves, pieces, plain, programs, slopes, texts,
+)
 
 FUNCTIONS = [
     (arrays, "places", ["sides"]),
@@ -16,6 +18,18 @@ FUNCTIONS = [
     (grids, "fits", ["dealing", "sides", "grid"]),
     (grids, "dealings", ["sides", "grid"]),
     (grids, "places_of", ["dealing", "sides", "grid", "machine"]),
+    (pieces, "cut_array", ["array", "dealing", "grid"]),
+    (pieces, "join_pieces", ["pieces", "sides", "dealing", "grid"]),
+    (makes, "may_deal", ["program", "number", "dealing", "grid"]),
+    (makes, "operand_dealing", ["program", "number", "dealing", "at"]),
+    (makes, "made_dealing", ["program", "number", "dealing"]),
+    (makes, "make_piece", ["program", "number", "dealing", "grid", "machine", "pieces"]),
+    (exchanges, "letters_of", ["sides", "dealing", "other", "grid"]),
+    (exchanges, "numbers_sent", ["sides", "dealing", "other", "grid"]),
+    (exchanges, "exchanged", ["pieces", "sides", "dealing", "other", "grid"]),
+    (moves, "letters_moved", ["sides", "dealing", "grid", "other", "target"]),
+    (moves, "numbers_moved", ["sides", "dealing", "grid", "other", "target"]),
+    (moves, "moved", ["pieces", "sides", "dealing", "grid", "other", "target"]),
 ]
 
 # For each class what makes an object, and its methods.
