@@ -1,8 +1,8 @@
 """Exchanges: how the machines of a grid lead an array from a dealing to another."""
 
 from dealtarrays.basics import combined
-from dealtarrays.grids import places_along, places_of
-from dealtarrays.wants import letters_between, numbers_wanted, pieces_gathered, wants_of
+from dealtarrays.grids import places_along, places_of, places_of_all
+from dealtarrays.wants import letters_between, many_combined, numbers_lacking, pieces_gathered, wants_of
 
 
 def letters_of(sides, dealing, other, grid):
@@ -12,14 +12,20 @@ def letters_of(sides, dealing, other, grid):
 
 def numbers_sent(sides, dealing, other, grid):
     """How many numbers the letters of an exchange have in all."""
-    summed = _not_in(dealing, other)
-    machines = [machine for machine in range(grid.many) if not _gets_zeros(dealing, other, grid, machine)]
-    return sum([numbers_wanted(sides, dealing, grid, other, grid, machine, summed) for machine in machines])
+    had, own = places_of_all(dealing, sides, grid), places_of_all(other, sides, grid)
+    return numbers_between(dealing, other, grid, had, own)
 
 
 def exchanged(pieces, sides, dealing, other, grid):
     """The pieces of the machines after an exchange."""
     return pieces_gathered(pieces, sides, other, grid, _wants_of_all(sides, dealing, other, grid))
+
+
+def numbers_between(dealing, other, grid, had, own):
+    """The numbers of an exchange, where had and own are the places of all machines by the one and the other dealing."""
+    each = many_combined(grid, _not_in(dealing, other))
+    machines = _first_along(grid, _not_in(other, dealing))
+    return sum([numbers_lacking(own[machine], had[machine], each) for machine in machines])
 
 
 def wants_in_exchange(sides, dealing, other, grid, machine):
@@ -34,6 +40,13 @@ def wants_in_exchange(sides, dealing, other, grid, machine):
 
 def _wants_of_all(sides, dealing, other, grid):
     return [wants_in_exchange(sides, dealing, other, grid, machine) for machine in range(grid.many)]
+
+
+def _first_along(grid, directions):
+    """The machines that are the first ones along these directions."""
+    if len(directions) == 0:
+        return list(range(grid.many))
+    return [machine for machine in range(grid.many) if not any(places_along(grid, machine, directions))]
 
 
 def _gets_zeros(dealing, other, grid, machine):

@@ -82,6 +82,11 @@ def places_of(dealing, sides, grid, machine):
     return tuple(found)
 
 
+def places_of_all(dealing, sides, grid):
+    """For each machine its places of each side."""
+    return tuple([places_of(dealing, sides, grid, machine) for machine in range(grid.many)])
+
+
 def places_along(grid, machine, directions):
     """The places of a machine along these directions of the grid, in the order in which they are given."""
     along = dict(named_place(grid, machine))

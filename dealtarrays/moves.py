@@ -1,8 +1,8 @@
 """Moves: how an array is led from a dealing on a grid to a dealing on another grid."""
 
 from dealtarrays.basics import combined
-from dealtarrays.grids import places_of
-from dealtarrays.wants import letters_between, numbers_wanted, pieces_gathered, wants_of
+from dealtarrays.grids import places_of, places_of_all
+from dealtarrays.wants import letters_between, many_combined, many_places, numbers_lacking, pieces_gathered, wants_of
 
 
 def letters_moved(sides, dealing, grid, other, target):
@@ -12,8 +12,12 @@ def letters_moved(sides, dealing, grid, other, target):
 
 def numbers_moved(sides, dealing, grid, other, target):
     """How many numbers the letters of a move have in all."""
-    machines = range(target.many)
-    return sum([numbers_wanted(sides, dealing, grid, other, target, machine, dealing.parts) for machine in machines])
+    each = many_combined(grid, dealing.parts)
+    had, own = places_of_all(dealing, sides, grid), places_of_all(other, sides, target)
+    known = [numbers_lacking(rows, old, each) for rows, old in zip(own, had)]
+    # The machines that target has beyond those of the grid had nothing.
+    new = [many_places(rows) * each for rows in own[grid.many:]]
+    return sum(known) + sum(new)
 
 
 def moved(pieces, sides, dealing, grid, other, target):

@@ -25,16 +25,24 @@ def wants_of(sides, dealing, grid, machine, own, summed, kept):
     return found
 
 
-def numbers_wanted(sides, dealing, grid, other, target, machine, summed):
-    """How many numbers a machine of target wants of others, so as to have its places by the dealing other."""
+def numbers_lacking(own, had, each):
+    """How many numbers a machine wants of others, so as to have its own places, for each place so many in all.
+
+    had has the places that it has already: of what is wanted for one of them it has a single number itself.
+    """
+    both = [[place for place in row if place in old] for row, old in zip(own, had)]
+    return many_places(own) * each - many_places(both)
+
+
+def many_combined(grid, directions):
+    """How many combinations of places there are along these directions of the grid."""
     lengths = dict(grid.directions)
-    own = places_of(other, sides, target, machine)
-    many = product_of([len(row) for row in own]) * product_of([lengths[direction] for direction in summed])
-    if machine >= grid.many:
-        return many
-    # Of what it had itself it has one combination, the one at which it stands.
-    had = places_of(dealing, sides, grid, machine)
-    return many - product_of([len([place for place in row if place in old]) for row, old in zip(own, had)])
+    return product_of([lengths[direction] for direction in directions])
+
+
+def many_places(rows):
+    """How many places a machine has that has these rows of places along the sides."""
+    return product_of([len(row) for row in rows])
 
 
 def letters_between(wanted):

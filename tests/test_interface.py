@@ -4,7 +4,7 @@ import inspect
 import unittest
 
 from dealtarrays import (
-    arrays, errors, exchanges, grids, makes, moves, pieces, plain, programs, slopes, texts,
+    arrays, audits, errors, exchanges, grids, makes, moves, pieces, plain, plans, programs, roads, runs, slopes, texts,
 )
 
 FUNCTIONS = [
@@ -30,6 +30,16 @@ FUNCTIONS = [
     (moves, "letters_moved", ["sides", "dealing", "grid", "other", "target"]),
     (moves, "numbers_moved", ["sides", "dealing", "grid", "other", "target"]),
     (moves, "moved", ["pieces", "sides", "dealing", "grid", "other", "target"]),
+    (roads, "least_road", ["sides", "dealing", "other", "grid"]),
+    (roads, "distances", ["sides", "dealing", "grid"]),
+    (plans, "piece_rounds", ["plan"]),
+    (audits, "faults", ["run"]),
+    (audits, "is_due", ["plan", "arrays", "letter"]),
+]
+
+# What has by_roads behind these, which is passed by its name only and is False unless it is passed.
+BY_ROADS = [
+    (plans, "Plan", ["program", "grid", "given", "dealt", "wanted"]),
 ]
 
 # For each class what makes an object, and its methods.
@@ -54,13 +64,22 @@ CLASSES = [
     (programs, "Program", ["inputs", "steps"], [("names", []), ("sides_of", ["name"])]),
     (grids, "Grid", ["directions"], [("place_of", ["machine"]), ("machine_at", ["place"]), ("__eq__", ["other"])]),
     (grids, "Dealing", ["cuts", "parts"], [("__eq__", ["other"])]),
+    (plans, "Plan", None, [("__init__", ["program", "grid", "given", "dealt", "wanted", "by_roads"])]),
+    (runs, "Run", ["plan", "arrays"], [
+        ("post", ["machine"]), ("letters", []), ("deliver", ["number"]), ("double", ["number"]), ("lose", ["number"]),
+        ("round_of", ["machine"]), ("keep", ["machine"]), ("fall", ["machine"]), ("is_done", []), ("calm", []),
+        ("piece", ["machine", "name"]), ("joined", ["name"]), ("__len__", []),
+    ]),
 ]
+
+PLAN = plans.Plan(programs.Program((("a", ()),), ()), grids.Grid((("x", 2),)), (grids.Dealing((), ()),), (), ())
 
 OBJECTS = [
     (arrays.Array((("i", 2),), (1, 2)), ["sides", "cells"]),
     (programs.Program((("a", ()),), (("b", "scale", "a", 2),)), ["inputs", "steps"]),
     (grids.Grid((("x", 2),)), ["directions", "many"]),
     (grids.Dealing((("i", "blocks", "x"),), ("y",)), ["cuts", "parts"]),
+    (PLAN, ["program", "grid", "given", "dealt", "wanted", "by_roads", "cost", "rounds"]),
 ]
 
 
@@ -87,6 +106,19 @@ class TestInterface(unittest.TestCase):
             for method, more in methods:
                 self.assertIn(method, vars(found), name)
                 self.assertEqual(arguments(vars(found)[method]), more, (name, method))
+
+    def test_by_roads(self):
+        for module, name, expected in BY_ROADS:
+            found = getattr(module, name)
+            self.assertEqual(found.__module__, module.__name__)
+            *others, last = inspect.signature(found).parameters.values()
+            self.assertEqual([parameter.name for parameter in others], expected)
+            self.assertTrue(all(parameter.kind is parameter.POSITIONAL_OR_KEYWORD for parameter in others))
+            self.assertEqual((last.name, last.kind, last.default), ("by_roads", last.KEYWORD_ONLY, False))
+
+    def test_said_is_a_property_of_runs(self):
+        self.assertIsInstance(vars(runs.Run)["said"], property)
+        self.assertIs(type(runs.Run(PLAN, (arrays.Array((), (1,)),)).said), int)
 
     def test_attributes_are_set_when_an_object_is_created(self):
         for found, attributes in OBJECTS:
