@@ -1,9 +1,10 @@
 """Plans of every kind, made by counting on from a number, and rows of deeds for runs of them."""
 
-from any_programs import Dice, any_arrays, any_program
+from any_programs import Dice, any_arrays, any_program, any_sides, any_step
+from dealtarrays.errors import NoFit
 from dealtarrays.grids import Grid, dealings
 from dealtarrays.makes import may_deal
-from dealtarrays.programs import operands
+from dealtarrays.programs import Program, operands
 
 PLAN_GRIDS = [
     Grid((("x", 2),)), Grid((("x", 3),)), Grid((("x", 2), ("y", 2))), Grid((("x", 1),)), Grid((("x", 2), ("y", 3))),
@@ -62,3 +63,42 @@ def cells_of(program, name):
 
 def any_plan_arrays(number, plan):
     return any_arrays(number, plan["program"])
+
+
+def any_tree(number, steps=3, sides=2, cells=9, grid=None, inputs=3):
+    """The arguments of a best plan for a tree by their names."""
+    dice = Dice(number + 11)
+    grid = grid or dice.one_of(ROAD_GRIDS)
+    found = tuple((f"v{at}", any_sides(dice, most=sides)) for at in range(1 + dice.below(inputs)))
+    program, free, tries = Program(found, ()), [name for name, _ in found], 0
+    while len(program.steps) < steps and tries < 300:
+        tries += 1
+        name = f"s{len(program.steps)}"
+        step = any_step(dice, name, {name: program.sides_of(name) for name in free})
+        used = operands(step)
+        if len(set(used)) < len(used):
+            continue
+        try:
+            more = Program(program.inputs, (*program.steps, step))
+        except NoFit:
+            continue
+        if len(more.sides_of(name)) <= sides and cells_of(more, name) <= cells:
+            program, free = more, [other for other in free if other not in used] + [name]
+    if any(cells_of(program, name) > cells for name in program.names()):
+        return any_tree(number + 1000, steps, sides, cells, grid, inputs)
+    if dice.below(2):
+        free.reverse()
+    return {
+        "program": program,
+        "grid": grid,
+        "given": tuple(dice.one_of(dealings(sides, grid)) for _, sides in program.inputs),
+        "wanted": tuple((name, dice.one_of(dealings(program.sides_of(name), grid))) for name in free),
+    }
+
+
+def many_rows(program, grid):
+    """How many rows of step dealings there are."""
+    many = 1
+    for number in range(len(program.steps)):
+        many *= len(all_step_dealings(program, number, grid))
+    return many

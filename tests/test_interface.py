@@ -1,10 +1,11 @@
-"""The interface: what has landed exists under its name, in its file, with its arguments."""
+"""The interface: everything exists under its name, in its file, with its arguments."""
 
 import inspect
 import unittest
 
 from dealtarrays import (
-    arrays, audits, errors, exchanges, grids, makes, moves, pieces, plain, plans, programs, roads, runs, slopes, texts,
+    arrays, audits, errors, exchanges, grids, makes, memory, moves, papers, pieces, plain, planners, plans, programs,
+    roads, runs, slopes, texts, tidy,
 )
 
 FUNCTIONS = [
@@ -35,11 +36,20 @@ FUNCTIONS = [
     (plans, "piece_rounds", ["plan"]),
     (audits, "faults", ["run"]),
     (audits, "is_due", ["plan", "arrays", "letter"]),
+    (memory, "most_held", ["plan"]),
+    (memory, "best_plan_within", ["program", "grid", "given", "wanted", "most"]),
+    (tidy, "tidied", ["program", "wanted"]),
+    (tidy, "for_each", ["program", "side", "size", "names"]),
+    (tidy, "split_program", ["program", "number", "wanted"]),
+    (planners, "step_dealings", ["program", "number", "grid"]),
 ]
 
 # What has by_roads behind these, which is passed by its name only and is False unless it is passed.
 BY_ROADS = [
     (plans, "Plan", ["program", "grid", "given", "dealt", "wanted"]),
+    (planners, "best_plan", ["program", "grid", "given", "wanted"]),
+    (papers, "cost_paper", ["program", "grid", "given", "wanted"]),
+    (papers, "judge", ["program", "grid", "given", "wanted", "paper", "cost"]),
 ]
 
 # For each class what makes an object, and its methods.
