@@ -181,6 +181,17 @@ class TestIsDue(unittest.TestCase):
                 for (at, to), numbers in list(machine.stand.told.items())[:10]:
                     self.assertTrue(is_due(plan, arrays, (at, machine.number, to, numbers)))
 
+    def test_parts_that_the_first_round_makes(self):
+        plan = Plan(PROGRAM, TWO, (BLOCKS,), (BLOCKS, BLOCKS), (("c", whole()),))
+        self.assertEqual([deed[0] for deed in plan.rounds], ["make", "make", "send"])
+        for letter, expected in [((2, 0, 1, (12,)), True), ((2, 1, 0, (15,)), True), ((2, 0, 1, (27,)), False),
+                                 ((2, 1, 0, (0,)), False), ((0, 0, 1, (12,)), False)]:
+            self.assertIs(is_due(plan, ARRAYS, letter), expected)
+        plan = Plan(Program(PROGRAM.inputs, (("s", "sum", "a", ("i",)),)), TWO, (BLOCKS,), (BLOCKS,), (("s", whole()),))
+        self.assertEqual([deed[0] for deed in plan.rounds], ["make", "send"])
+        for letter, expected in [((1, 0, 1, (4,)), True), ((1, 1, 0, (5,)), True), ((1, 0, 1, (9,)), False)]:
+            self.assertIs(is_due(plan, ARRAYS, letter), expected)
+
     def test_order_of_the_numbers(self):
         plan = Plan(Program((("a", (("i", 4),)),), ()), TWO, (BLOCKS,), (), (("a", whole()),))
         arrays = [Array((("i", 4),), (1, 2, 3, 4))]
@@ -190,9 +201,10 @@ class TestIsDue(unittest.TestCase):
     def test_other_arrays(self):
         self.assertFalse(is_due(PLAN, (Array(I2, (5, 5)),), (0, 0, 1, (4,))))
         self.assertTrue(is_due(PLAN, [Array(I2, (5, 5))], (0, 0, 1, (5,))))
-        with self.assertRaises(BadInput) as caught:
-            is_due(PLAN, (Array((), (5,)),), (0, 0, 1, (4,)))
-        self.assertEqual(caught.exception.number, 0)
+        for letter in [(0, 0, 1, (4,)), (9, 0, 1, ()), (0, 5, 5, (4,))]:
+            with self.assertRaises(BadInput) as caught:
+                is_due(PLAN, (Array((), (5,)),), letter)
+            self.assertEqual(caught.exception.number, 0)
 
     def test_arguments(self):
         letter = (0, 0, 1, [4])

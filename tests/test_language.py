@@ -75,6 +75,37 @@ class TestNames(unittest.TestCase):
                 self.assertIn(node.id, BUILTINS, (name, node.lineno))
                 self.assertIsInstance(node.ctx, ast.Load, (name, node.lineno))
 
+    def test_parameters_and_variables(self):
+        # None has the name of a builtin, or of an import or a class of its file.
+        for name, tree in trees():
+            taken = set(dir(builtins)) - {"_"}
+            taken |= {alias.name for node in tree.body if isinstance(node, ast.ImportFrom) for alias in node.names}
+            taken |= {node.name for node in tree.body if isinstance(node, ast.ClassDef)}
+            for node in ast.walk(tree):
+                if isinstance(node, ast.arg):
+                    self.assertNotIn(node.arg, taken, name)
+                if isinstance(node, ast.Name) and isinstance(node.ctx, ast.Store):
+                    self.assertNotIn(node.id, taken, name)
+
+    def test_no_name_is_a_method_and_an_attribute(self):
+        for _, tree in trees():
+            methods = {node.name for found in tree.body if isinstance(found, ast.ClassDef)
+                       for node in found.body if isinstance(node, ast.FunctionDef)}
+            for name, node in nodes(ast.Attribute):
+                if isinstance(node.ctx, ast.Store):
+                    self.assertNotIn(node.attr, methods, name)
+
+    def test_no_two_files_import_from_each_other(self):
+        imports = {name.removesuffix(".py"): {
+            node.module.split(".")[1] for node in tree.body
+            if isinstance(node, ast.ImportFrom) and node.module.startswith("dealtarrays.")
+        } for name, tree in trees()}
+        done = set()
+        while len(done) < len(imports):
+            free = {name for name, needed in imports.items() if name not in done and needed <= done}
+            self.assertTrue(free, set(imports) - done)
+            done |= free
+
     def test_double_underscores(self):
         for name, node in nodes(ast.FunctionDef):
             if node.name.startswith("__"):

@@ -3,6 +3,7 @@
 import itertools
 import unittest
 
+from any_plans import all_step_dealings, index_sides
 from any_programs import any_arrays, any_program
 from any_values import listed
 from brute import SMALL_GRIDS, all_places, rows_of
@@ -38,22 +39,6 @@ STEPS = [
 ]
 PROGRAM = Program(INPUTS, tuple((f"s{at}", *rest) for at, (rest, _, _) in enumerate(STEPS)))
 ROW = tuple((side, 1) for side in "hijkxz")
-
-
-def index_sides(program, number):
-    """The index names with their sizes, from all sides of operands and of what is made."""
-    step = program.steps[number]
-    sizes = {}
-    for name in (*operands(step), step[0]):
-        sizes.update(dict(program.sides_of(name)))
-    if step[1] == "turn":
-        del sizes[step[3]]
-    return tuple(sorted(sizes.items()))
-
-
-def step_dealings(program, number, grid):
-    return [dealing for dealing in dealings(index_sides(program, number), grid)
-            if may_deal(program, number, dealing, grid)]
 
 
 class TestMayDeal(unittest.TestCase):
@@ -96,7 +81,7 @@ class TestDealings(unittest.TestCase):
     def test_operand_dealing_of_each_kind(self):
         for grid in SMALL_GRIDS:
             for number, step in enumerate(PROGRAM.steps):
-                for dealing in step_dealings(PROGRAM, number, grid):
+                for dealing in all_step_dealings(PROGRAM, number, grid):
                     for at, name in enumerate(operands(step)):
                         found = operand_dealing(PROGRAM, number, dealing, at)
                         self.assertIs(type(found), Dealing)
@@ -126,7 +111,7 @@ class TestDealings(unittest.TestCase):
         for grid in SMALL_GRIDS:
             for number, step in enumerate(PROGRAM.steps):
                 own = dict(PROGRAM.sides_of(step[0]))
-                for dealing in step_dealings(PROGRAM, number, grid):
+                for dealing in all_step_dealings(PROGRAM, number, grid):
                     found = made_dealing(PROGRAM, number, dealing)
                     self.assertIs(type(found), Dealing)
                     self.assertEqual(found.cuts, tuple(cut for cut in dealing.cuts if cut[0] in own))
@@ -169,7 +154,7 @@ class TestMakePiece(unittest.TestCase):
         """Each machine's piece by each step dealing, and all of them joined."""
         step = program.steps[number]
         used = [arrays[name] for name in operands(step)]
-        for dealing in step_dealings(program, number, grid):
+        for dealing in all_step_dealings(program, number, grid):
             given = [cut_array(array, operand_dealing(program, number, dealing, at), grid)
                      for at, array in enumerate(used)]
             pieces = [make_piece(program, number, dealing, grid, machine, [pieces[machine] for pieces in given])
@@ -231,7 +216,7 @@ class TestMakePiece(unittest.TestCase):
         program = Program((("p", four), ("q", other)), (("r", "mulsum", "p", "q", ("a", "b", "g", "h")),))
         made = dict(zip(program.names(), run_plain(program, any_arrays(0, program))))
         grid = Grid((("x", 2),))
-        self.assertEqual(len(step_dealings(program, 0, grid)), 17)
+        self.assertEqual(len(all_step_dealings(program, 0, grid)), 17)
         self.check(program, 0, grid, made)
 
     def test_pieces_as_lists_and_arguments_by_name(self):

@@ -235,7 +235,8 @@ class TestTooMany(BestCase):
         self.assertEqual(caught.exception.many, 37 ** 5)
 
     def test_just_more(self):
-        steps = (("c", "mul", "a", "b"), ("d", "sum", "c", ("h", "i")), ("e", "sum", "d", ("j",)), ("f", "sum", "e", ()))
+        steps = (("c", "mul", "a", "b"), ("d", "sum", "c", ("h", "i")), ("e", "sum", "d", ("j",)),
+                 ("f", "sum", "e", ()))
         program = Program((("a", (("h", 2), ("i", 2))), ("b", (("j", 2),))), steps)
         self.assertEqual(many_rows(program, TWO), 7 * 7 * 3)
         program = Program(program.inputs, (*steps, ("g", "scale", "a", 2)))

@@ -100,7 +100,8 @@ class TestTidied(unittest.TestCase):
         self.assertEqual(self.tidy((), ("a",)), ((), ("a",)))
 
     def test_steps_that_are_alike(self):
-        steps = (("c", "sum", "a", ("i",)), ("d", "sum", "a", ("i",)), ("e", "sum", "a", ("k",)), ("f", "add", "c", "d"))
+        steps = (("c", "sum", "a", ("i",)), ("d", "sum", "a", ("i",)), ("e", "sum", "a", ("k",)),
+                 ("f", "add", "c", "d"))
         self.assertEqual(self.tidy(steps, ("f", "d", "c", "e")),
                          ((steps[0], steps[2], ("f", "add", "c", "c")), ("f", "c", "c", "e")))
         self.assertEqual(self.tidy(steps, ("d",)), ((steps[1],), ("d",)))
@@ -115,7 +116,8 @@ class TestTidied(unittest.TestCase):
             steps = (("c", kind, "b", "a"), ("d", kind, "a", "b"))
             kept = steps[:1] if alike else steps
             self.assertEqual(self.tidy(steps, ("d", "c")), (kept, ("c", "c") if alike else ("d", "c")))
-        steps = (("c", "mulsum", "a", "b", ("i",)), ("d", "mulsum", "b", "a", ("i",)), ("e", "mulsum", "a", "b", ("i",)))
+        steps = (("c", "mulsum", "a", "b", ("i",)), ("d", "mulsum", "b", "a", ("i",)),
+                 ("e", "mulsum", "a", "b", ("i",)))
         self.assertEqual(self.tidy(steps, ("c", "d", "e")), (steps[:2], ("c", "d", "c")))
 
     def test_steps_of_other_kinds_or_numbers_are_not_alike(self):
@@ -232,9 +234,9 @@ class TestForEach(unittest.TestCase):
         large = (("h", 6), ("k", 6))
         program = Program((("a", many), ("b", large), ("c", ())), (("d", "mul", "a", "c"),))
         for size, names, expected in [
-            (2, ("a",), (*many, ("z", 2))), (2, ("c", "a", "b"), (*many, ("z", 2))), (6, ("b", "a"), (*large, ("z", 6))),
-            (6, ["a", "b"], (*many, ("z", 6))), (7, ("c", "b"), (("z", 7),)), (0, ("c",), (("z", 0),)),
-            (-1, ("b",), (*large, ("z", -1))),
+            (2, ("a",), (*many, ("z", 2))), (2, ("c", "a", "b"), (*many, ("z", 2))),
+            (6, ("b", "a"), (*large, ("z", 6))), (6, ["a", "b"], (*many, ("z", 6))),
+            (7, ("c", "b"), (("z", 7),)), (0, ("c",), (("z", 0),)), (-1, ("b",), (*large, ("z", -1))),
         ]:
             with self.assertRaises(InvalidSides) as caught:
                 for_each(program, "z", size, names)
@@ -251,7 +253,8 @@ class TestForEach(unittest.TestCase):
 
     def test_the_first_step_that_does_not_fit(self):
         inputs = (("a", (("h", 2), ("i", 2))), ("b", (("k", 2), ("l", 2))), ("m", (("p", 6), ("q", 6))))
-        steps = (("c", "scale", "a", 2), ("d", "sum", "m", ("p",)), ("e", "mul", "a", "b"), ("f", "spread", "m", "r", 4))
+        steps = (("c", "scale", "a", 2), ("d", "sum", "m", ("p",)), ("e", "mul", "a", "b"),
+                 ("f", "spread", "m", "r", 4))
         program = Program(inputs, steps)
         for size, names, number in [(2, ("a",), 2), (2, ("b",), 2), (2, ("m",), 3), (2, ("m", "a"), 2)]:
             with self.assertRaises(NoFit) as caught:
@@ -323,8 +326,9 @@ class TestSplit(unittest.TestCase):
     def test_a_known_program(self):
         program = Program(INPUTS, self.STEPS)
         for number, wanted, names in [
-            (0, (), "ab"), (1, (), "ac"), (2, (), "ac"), (3, (), "ae"), (4, (), ""), (4, ("f",), "f"), (0, ("f",), "ab"),
-            (4, ("d", "a", "d"), "ad"), (3, ("b",), "abe"), (2, ["d", "f"], "acd"), (4, ("f", "c", "a", "b"), "abcf"),
+            (0, (), "ab"), (1, (), "ac"), (2, (), "ac"), (3, (), "ae"), (4, (), ""), (4, ("f",), "f"),
+            (0, ("f",), "ab"), (4, ("d", "a", "d"), "ad"), (3, ("b",), "abe"), (2, ["d", "f"], "acd"),
+            (4, ("f", "c", "a", "b"), "abcf"),
         ]:
             first, second = split_program(program, number, wanted)
             self.assertEqual((first.inputs, first.steps), (INPUTS, self.STEPS[:number]))
